@@ -1,0 +1,1 @@
+"""Storedesk: a small database whose every road to an answer gives the plain answer."""

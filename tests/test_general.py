@@ -1,0 +1,122 @@
+"""Points 1 to 4 for all files: what the program uses, its names and parameters, and what it leaves as it is."""
+
+import ast
+import copy
+import importlib
+import inspect
+import pathlib
+import unittest
+
+from storedesk.books import make_book
+from storedesk.deltas import apply_delta, combined
+from storedesk.errors import KeyTaken, Mismatch
+from storedesk.values import Bag
+from tests.samples import BOOK, SCHEMA
+from tests.support import StoreCase
+
+PACKAGE = pathlib.Path(importlib.import_module("storedesk").__file__).parent
+
+# The functions of the interface with their parameters; "*" stands before one that is passed by name only.
+FUNCTIONS = {
+    "values": {
+        "kind_of": "value", "sort_key": "value", "compare": "left right", "same": "left right", "row_key": "row",
+        "compare_rows": "left right", "sorted_rows": "rows", "is_name": "thing", "is_label": "thing",
+        "write_value": "value",
+        "write_row": "row", "read_value": "text", "read_row": "text",
+    },
+    "conditions": {
+        "compared": "op left right", "labels_of": "condition", "holds": "condition columns row",
+        "conjuncts": "condition",
+        "conjoined": "conditions", "renamed": "condition names", "folded": "condition", "interval": "condition label",
+    },
+    "schemas": {
+        "fits": "kind value", "check_schema": "schema", "definition_of": "schema table", "column_names": "definition",
+        "key_of": "definition row", "check_rows": "definition rows",
+    },
+    "books": {
+        "empty_book": "schema", "make_book": "schema tables", "is_book": "schema book", "rows_of": "book table",
+        "row_at": "schema book table key", "counts_of": "book", "dangling": "schema book",
+    },
+    "deltas": {
+        "difference": "schema old new", "apply_delta": "schema book delta *references", "inverse": "delta",
+        "tables_touched": "delta",
+    },
+    "trees": {
+        "children": "tree", "places": "tree", "places_up": "tree", "subtree": "tree place",
+        "replaced": "tree place part",
+        "tables_in": "tree", "columns_of": "schema tree",
+    },
+    "words": {"tokens": "text"},
+}
+
+
+def module_of(file):
+    return importlib.import_module("storedesk." + file)
+
+
+class TestInterface(StoreCase):
+    def test_each_function_is_defined_in_its_file(self):
+        for file, functions in FUNCTIONS.items():
+            for name in functions:
+                function = getattr(module_of(file), name)
+                self.assertTrue(inspect.isfunction(function), name)
+                self.assertEqual((function.__module__, function.__name__), ("storedesk." + file, name))
+
+    def test_parameters(self):
+        for file, functions in FUNCTIONS.items():
+            for name, wanted in functions.items():
+                found = inspect.signature(getattr(module_of(file), name)).parameters
+                self.assertEqual([part.strip("*") for part in wanted.split()], list(found), name)
+                for part in wanted.split():
+                    parameter = found[part.strip("*")]
+                    kind = parameter.KEYWORD_ONLY if part.startswith("*") else parameter.POSITIONAL_OR_KEYWORD
+                    self.assertEqual(parameter.kind, kind, (name, part))
+
+    def test_defaults(self):
+        self.assertIs(inspect.signature(apply_delta).parameters["references"].default, True)
+        self.assertSame(inspect.signature(Bag).parameters["rows"].default, ())
+
+    def test_methods_are_defined_in_the_class(self):
+        self.assertEqual((Bag.__module__, Bag.__name__), ("storedesk.values", "Bag"))
+        for name in ("counted", "many", "rows", "__add__", "__sub__", "__len__", "__contains__", "__bool__", "__iter__",
+                     "pairs"):
+            self.assertIn(name, vars(Bag))
+
+
+class TestWhatIsUsed(StoreCase):
+    def test_imports(self):
+        """No clock, no random numbers, no files and no network can be reached but by an import."""
+        allowed = {"heapq", "itertools", "math", "__future__"}
+        files = sorted(PACKAGE.rglob("*.py"))
+        self.assertGreater(len(files), 8)
+        for path in files:
+            for node in ast.walk(ast.parse(path.read_text(encoding="utf-8"))):
+                if isinstance(node, ast.ImportFrom):
+                    self.assertTrue(node.module in allowed or node.module.split(".")[0] == "storedesk",
+                                    (path.name, node.module))
+                if isinstance(node, ast.Import):
+                    self.assertEqual([name.name for name in node.names], ["sys"], path.name)
+                    self.assertEqual(path.name, "__main__.py")
+                if isinstance(node, ast.Name):
+                    self.assertNotIn(node.id, ("open", "input", "id", "hash", "__import__", "eval", "exec"), path.name)
+
+
+class TestWhatIsLeftAlone(StoreCase):
+    """After calls that raise an error, too; the other tests see to it for those that return."""
+
+    def test_make_book(self):
+        tables = [("zoo", [("b", None), ("a", None), ("b", None)]), ("ants", []), ("zoo", [])]
+        before = copy.deepcopy(tables)
+        self.assertFails(KeyTaken, {"table": "zoo", "key": ("b",)}, make_book, SCHEMA, tables)
+        self.assertSame(tables, before)
+
+    def test_deltas(self):
+        delta = (("zoo", ("a",), ("a", None), ("a", "x")), ("zoo", ("b",), None, ("b", "x")))
+        before = copy.deepcopy((BOOK, delta))
+        self.assertFails(Mismatch, {"table": "zoo", "key": ("b",)}, apply_delta, SCHEMA, BOOK, delta)
+        self.assertFails(Mismatch, {"table": "zoo", "key": ("a",)}, combined, delta, delta)
+        self.assertSame((BOOK, delta), before)
+
+
+if __name__ == "__main__":
+    unittest.main()
