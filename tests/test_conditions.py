@@ -282,22 +282,22 @@ class TestFolded(StoreCase):
     def test_eight_deep_with_24_nodes(self):
         parts = [eq("a", number) for number in range(8)]
         deep = ("not", ("and", parts[0], parts[1]))
-        for number in range(2, 8):
+        for number in range(2, 7):
             deep = (("and", "or")[number % 2], deep, ("not", parts[number]))
-        self.assertSame(self.depth(deep), 8)
-        wide = [("or", parts[0], parts[1]), ("or", parts[2], parts[3]), ("or", parts[4], parts[5]),
-                ("or", parts[6], parts[7])]
-        tree = ("and", ("and", ("or", wide[0], wide[1]), ("or", wide[2], wide[3])), ("not", ("or", wide[0], wide[3])))
-        self.assertSame(nodes_in(tree), 24)
-        chain = A
+        deep = ("and", deep, ("not", ("or", parts[7], cmp("<=", val(9), col("a")))))
+        self.assertSame((self.depth(deep), nodes_in(deep)), (8, 24))
+        nots = A
         for _ in range(8):
-            chain = ("not", chain)
-        for condition in (deep, tree, ("not", wide[0]), chain, left_chain("and", parts),
-                          ("not", left_chain("or", parts))):
+            nots = ("not", nots)
+        for condition in (deep, nots, left_chain("and", parts), ("not", left_chain("or", parts))):
             self.check(condition, plainly_folded(condition))
             self.assertSame(labels_of(condition), ["a"])
-            for number in range(9):
+            self.assertSame(renamed(renamed(condition, {"a": "t.b"}), {"t.b": "a"}), condition)
+            for number in range(10):
                 self.assertSame(holds(folded(condition), ("a",), (number,)), holds(condition, ("a",), (number,)))
+        self.assertSame([number for number in range(10) if holds(deep, ("a",), (number,))], [0, 1, 2, 3, 4, 5, 8])
+        self.assertSame(conjuncts(left_chain("and", parts)), parts)
+        self.assertSame(interval(left_chain("and", parts), "a"), ((7,), (0,)))
 
     def depth(self, condition):
         if condition[0] in ("compare", "true", "false"):
