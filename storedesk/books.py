@@ -17,7 +17,7 @@ def make_book(schema, tables):
     pairs = []
     for definition in schema:
         rows = sorted_by_key(definition, gathered[definition[0]])
-        _check_keys(definition, rows)
+        check_keys(definition, rows)
         pairs.append((definition[0], tuple(rows)))
     book = tuple(pairs)
     check_references(schema, book)
@@ -39,7 +39,8 @@ def sorted_by_key(definition, rows):
     return sorted(rows, key=lambda row: row_key(key_of(definition, row)))
 
 
-def _check_keys(definition, rows):
+def check_keys(definition, rows):
+    """Raise KeyTaken for the least key that two of the table's rows have, which are ascending by key."""
     for row, following in zip(rows, rows[1:]):
         key = key_of(definition, row)
         if same(key, key_of(definition, following)):
