@@ -17,7 +17,8 @@ class StoreCase(unittest.TestCase):
     maxDiff = None
 
     def assertSame(self, got, wanted, told=None):
-        if exact(got) != exact(wanted):
+        # What is written in the same way is the same; the other way round, a dict may stand in another order.
+        if repr(got) != repr(wanted) and exact(got) != exact(wanted):
             self.fail(f"got {got!r}, wanted {wanted!r}" + ("" if told is None else f" ({told!r})"))
 
     def assertFails(self, error, attributes, call, *rest, **more):
