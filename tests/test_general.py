@@ -10,6 +10,9 @@ import unittest
 from storedesk.books import make_book
 from storedesk.deltas import apply_delta, combined
 from storedesk.errors import KeyTaken, Mismatch
+from storedesk.pagetree import PageTree
+from storedesk.printer import write_query
+from storedesk.steps import RULES, SHRINKING
 from storedesk.values import Bag
 from tests.samples import BOOK, SCHEMA
 from tests.support import StoreCase
@@ -47,6 +50,26 @@ FUNCTIONS = {
         "tables_in": "tree", "columns_of": "schema tree",
     },
     "words": {"tokens": "text"},
+    "reader": {"read_query": "text", "read_change": "text", "read_condition": "text"},
+    "printer": {"write_query": "tree *lines", "write_change": "change", "write_condition": "condition"},
+    "changes": {"change_delta": "schema book change"},
+    "answers": {
+        "group_rows": "rows columns by aggregates", "top_rows": "rows columns keys n",
+        "answer_node": "schema tree parts", "answer": "schema book tree", "shown": "schema book tree",
+    },
+    "steps": {
+        "blocks": "tree", "arranged": "schema tree order", "take_step": "schema tree step",
+        "applies": "schema tree step",
+    },
+    "rewriting": {
+        "shrinking_steps": "schema tree", "run_chain": "schema tree chain", "is_chain": "schema tree chain end",
+        "is_normal": "schema tree", "normal_chain": "schema tree", "normal": "schema tree",
+    },
+    "joins": {
+        "size": "counts tree", "price": "counts tree", "best_order": "schema counts tree",
+        "optimize": "schema counts tree",
+    },
+    "pages": {"is_tree": "pages order", "entries_of": "pages", "depth_of": "pages", "search_path": "pages key"},
 }
 
 
@@ -75,12 +98,27 @@ class TestInterface(StoreCase):
     def test_defaults(self):
         self.assertIs(inspect.signature(apply_delta).parameters["references"].default, True)
         self.assertSame(inspect.signature(Bag).parameters["rows"].default, ())
+        self.assertIs(inspect.signature(write_query).parameters["lines"].default, False)
+        for made in (PageTree, PageTree.loaded):
+            self.assertEqual(inspect.signature(made).parameters["order"].kind, inspect.Parameter.KEYWORD_ONLY)
+            self.assertSame(inspect.signature(made).parameters["order"].default, 8)
+        scan = inspect.signature(PageTree().scan).parameters
+        self.assertEqual(list(scan), ["low", "high", "reverse"])
+        self.assertSame([parameter.default for parameter in scan.values()], [(), (), False])
+        self.assertEqual(scan["reverse"].kind, inspect.Parameter.KEYWORD_ONLY)
 
     def test_methods_are_defined_in_the_class(self):
         self.assertEqual((Bag.__module__, Bag.__name__), ("storedesk.values", "Bag"))
         for name in ("counted", "many", "rows", "__add__", "__sub__", "__len__", "__contains__", "__bool__", "__iter__",
                      "pairs"):
             self.assertIn(name, vars(Bag))
+        self.assertEqual((PageTree.__module__, PageTree.__name__), ("storedesk.pagetree", "PageTree"))
+        for name in ("loaded", "put", "take", "look", "scan", "drain", "__len__", "__contains__", "pages"):
+            self.assertIn(name, vars(PageTree))
+
+    def test_names_of_rules(self):
+        self.assertIsInstance(RULES, tuple)
+        self.assertIsInstance(SHRINKING, tuple)
 
 
 class TestWhatIsUsed(StoreCase):

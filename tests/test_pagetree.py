@@ -92,6 +92,7 @@ class TestMap(TreeCase):
         self.assertIs((True,) in tree, True)
         self.assertSame(tree.put((0,), (False,)), (0,))
         self.assertSame(tree.put((0,), (0,)), (False,))
+        self.assertSame(tree.look((0,)), (0,))
 
     def test_keys_that_are_prefixes(self):
         keys = [(), (None,), (None, None), ("a",), ("a", None), ("a", 0), ("a", 0, ""), ("b",)]
@@ -195,13 +196,25 @@ class TestScan(TreeCase):
             self.scanned(tree, (True,), (True,))
             self.scanned(tree, (1, True), (1, 2, 3, 4), *keys[2:4])
 
+    def test_texts(self):
+        for order in (4, 5, 16):
+            keys = [(at,) for at in range(30)] + [(f"{mark}{at}",) for mark in "abcxyz" for at in range(5)]
+            tree = self.filled([(key, key) for key in keys], order)
+            for at in range(0, 60, 7):
+                self.scanned(tree, keys[at], (), *keys[at:])
+                self.scanned(tree, (), keys[at], *keys[:at + 1])
+                self.scanned(tree, keys[at], keys[-1], *keys[at:])
+            self.scanned(tree, ("",), ("b",), *keys[30:35])
+            self.scanned(tree, ("b2z",), ("y0",), *keys[38:51])
+
     def test_drawn(self):
         draw = random.Random(52)
         for order in (4, 5, 8, 16):
             content = paged.entries(draw, 100)
             tree = PageTree.loaded(paged.built(draw, content, order), order=order)
             places = [place(key) for key, _ in content]
-            ends = [(), *paged.keys(draw, 10), *[key for key, _ in content[::13]], *[key[:1] for key, _ in content[::17]]]
+            ends = [(), *paged.keys(draw, 10), *[key for key, _ in content[::13]], *[key[:1] for key,
+                                                                                     _ in content[::17]]]
             for low in ends:
                 for high in ends:
                     first, last = place(low), place(high)
