@@ -32,7 +32,7 @@ class Reader:
         _, _, line, column = self.found[self.at]
         raise BadSyntax(line, column)
 
-    def step(self):
+    def advance(self):
         """Take the next token and return its text."""
         text = self.sight()
         self.at += 1
@@ -54,7 +54,7 @@ class Reader:
         """Take the next token, which must have one of these texts, and return its text."""
         if self.sight() not in texts:
             self.refuse()
-        return self.step()
+        return self.advance()
 
     def finish(self):
         """See to it that nothing is left but the end."""
@@ -104,7 +104,7 @@ def _listed(reader, part):
 def _name(reader):
     if not is_name(reader.sight()):
         reader.refuse()
-    return reader.step()
+    return reader.advance()
 
 
 def _label(reader):
@@ -117,7 +117,7 @@ def _label(reader):
 def _value(reader):
     if not _at_value(reader):
         reader.refuse()
-    return read_value(reader.step())
+    return read_value(reader.advance())
 
 
 def _at_value(reader):
@@ -127,7 +127,7 @@ def _at_value(reader):
 def _count(reader):
     if reader.kind() != "number" or reader.sight().startswith("-"):
         reader.refuse()
-    return read_value(reader.step())
+    return read_value(reader.advance())
 
 
 def _query(reader):
@@ -135,7 +135,7 @@ def _query(reader):
     tree = _source(reader)
     while reader.sight() in STAGES:
         stage = STAGES[reader.sight()]
-        tree = stage(reader, reader.step(), tree)
+        tree = stage(reader, reader.advance(), tree)
     return tree
 
 

@@ -23,6 +23,20 @@ def place(key):
     return tuple(row_order(key))
 
 
+def differing(then, now):
+    """What a drain returns for two dicts of pages; what is written in the same way is the same."""
+    numbers = [one for one in sorted({**then, **now}) if repr(then.get(one)) != repr(now.get(one))]
+    return [(one, then.get(one), now.get(one)) for one in numbers]
+
+
+def even_pages(size, count):
+    """A branch over so many leaves of one size each."""
+    keys = [[(100 * part + at,) for at in range(size)] for part in range(count)]
+    leaves = [(part + 1, ("leaf", tuple([(key, (key[0], "x")) for key in keys[part]]))) for part in range(count)]
+    root = ("branch", tuple([part[0] for part in keys[1:]]), tuple(range(1, count + 1)))
+    return ((0, root), *leaves)
+
+
 class TreeCase(StoreCase):
     def check(self, tree, wanted, order):
         """The pages are a right page tree of the order with these entries; wanted is a dict from places to entries."""
@@ -250,9 +264,7 @@ class TestPages(TreeCase):
 
     def check_drained(self, drained, before, after, most):
         self.assertLessEqual(len(drained), most)
-        changed = [number for number in sorted({**before,
-                                                **after}) if repr(before.get(number)) != repr(after.get(number))]
-        self.assertSame(drained, [(number, before.get(number), after.get(number)) for number in changed])
+        self.assertSame(drained, differing(before, after))
 
     def test_ascending_and_descending(self):
         for order in ORDERS:
@@ -284,6 +296,25 @@ class TestPages(TreeCase):
                 calls = [(key, None) for key, _ in content] + [(key, ("new",)) for key in paged.keys(draw, 30)]
                 self.run_calls(order, draw.sample(calls, len(calls)), tree, wanted)
 
+    def test_leaves_with_the_fewest_and_the_most_entries(self):
+        for order in ORDERS:
+            for size in (order // 2, order):
+                for count in (2, 3, order):
+                    pages = even_pages(size, count)
+                    content = entries_of(pages)
+                    wanted = {place(key): (key, row) for key, row in content}
+                    for key, row in content[::max(1, len(content) // 12)]:
+                        self.run_calls(order, [(key, None)], PageTree.loaded(pages, order=order), dict(wanted))
+                        self.run_calls(order, [((*key, 0), row)], PageTree.loaded(pages, order=order), dict(wanted))
+
+    def test_a_key_of_a_branch_that_is_no_entrys_key(self):
+        pages = (TWO[0], TWO[1], (2, ("leaf", (((4,), ()), ((5,), ())))))
+        for key in ((3,), (2, None), (3, None), (2, 7)):
+            tree = PageTree.loaded(((0, ("branch", ((3,),), (1, 2))), *pages[1:]), order=4)
+            self.assertIsNone(tree.look(key))
+            wanted = {place(key): (key, row) for key, row in tree.scan()}
+            self.run_calls(4, [(key, ("new",)), ((3, 0), ()), (key, None), ((4,), None), ((5,), None)], tree, wanted)
+
     def test_four_hundred_entries(self):
         for order in (4, 7, 16):
             draw = random.Random(order)
@@ -309,15 +340,15 @@ class TestPages(TreeCase):
 
     def test_another_row(self):
         tree = PageTree.loaded(TWO, order=4)
-        self.assertSame(tree.put((2,), (2, "z")), (2, "b"))
-        leaf = ("leaf", (((1,), (1, "a")), ((2,), (2, "z"))))
-        self.assertSame(tree.drain(), [(1, TWO[1][1], leaf)])
-        self.assertSame(tree.put((2,), (True, "z")), (2, "z"))
-        self.assertSame(len(tree.drain()), 1)
-        tree.put((2,), (1, "z"))
-        self.assertSame(len(tree.drain()), 1)
-        tree.put((2,), (1, "z"))
-        self.assertSame(tree.drain(), [])
+        for row, old in (((2, "z"), (2, "b")), ((True, "z"), (2, "z")), ((1, "z"), (True, "z")), ((), (1, "z"))):
+            then = dict(tree.pages)
+            self.assertSame(tree.put((2,), row), old)
+            self.assertSame(tree.look((2,)), row)
+            drained = tree.drain()
+            self.assertSame(drained, differing(then, dict(tree.pages)))
+            self.assertGreater(len(drained), 0)
+            self.assertSame(tree.put((2,), row), row)
+            self.assertSame(tree.drain(), [])
 
 
 class TestDrain(TreeCase):
@@ -333,47 +364,36 @@ class TestDrain(TreeCase):
         self.assertSame(tree.drain(), [(0, two, ("leaf", (((2,), ("b",)),)))])
         self.assertSame(tree.drain(), [])
 
-    def test_what_has_become_the_same_again(self):
+    def test_several_calls(self):
+        """What has become the same again is not among the changed pages."""
         tree = PageTree.loaded(TWO, order=4)
-        tree.put((2,), ("z",))
-        tree.put((2,), (2, "b"))
-        self.assertSame(tree.drain(), [])
-        tree.put((5,), ("z",))
-        tree.take((5,))
-        self.assertSame(tree.drain(), [])
-        tree.put((2,), (2, "B"))
-        tree.drain()
-        tree.put((2,), (2, "b"))
-        self.assertSame(len(tree.drain()), 1)
-        self.assertSame(tree.pages, TWO)
-
-    def test_after_loading(self):
-        tree = PageTree.loaded(TWO, order=4)
-        tree.put((9,), ())
-        drained = tree.drain()
-        self.assertSame([before for number, before, _ in drained if number == 2], [TWO[2][1]])
+        for calls in ((("put", 2, "z"), ("put", 2, "b")), (("put", 5, "z"), ("take", 5, None)), (("put", 9, "x"),),
+                      (("take", 1, None), ("take", 2, None), ("take", 3, None)), (("put", 1, "a"), ("put", 2, "b")),
+                      (("put", 2, "B"),), (("put", 2, "b"),), ()):
+            then = dict(tree.pages)
+            for word, key, text in calls:
+                tree.put((key,), (key, text)) if word == "put" else tree.take((key,))
+            self.assertSame(tree.drain(), differing(then, dict(tree.pages)))
+            self.assertSame(tree.drain(), [])
 
     def test_pages_that_are_gone_and_come_back(self):
         draw = random.Random(55)
         for order in (4, 5, 9):
             tree = PageTree(order=order)
-            seen = {"gone": 0, "come": 0, "again": 0}
-            then, ever = dict(tree.pages), {0}
-            for at in range(120):
-                for _ in range(draw.randrange(1, 25)):
+            seen = {"gone": 0, "come": 0}
+            then = dict(tree.pages)
+            for at in range(60):
+                for _ in range(draw.randrange(1, 16)):
                     key = (draw.randrange(50),)
                     tree.take(key) if (draw.random() < 0.8) == (at % 2 == 1) else tree.put(key, (draw.randrange(3),))
                 now = dict(tree.pages)
-                changed = [one for one in sorted({**then, **now}) if repr(then.get(one)) != repr(now.get(one))]
                 drained = tree.drain()
-                self.assertSame(drained, [(one, then.get(one), now.get(one)) for one in changed])
-                for one, before, after in drained:
+                self.assertSame(drained, differing(then, now))
+                for _, before, after in drained:
                     seen["gone"] += after is None
                     seen["come"] += before is None
-                    seen["again"] += before is None and one in ever
-                ever |= set(now)
                 then = now
-            self.assertGreater(min(seen["gone"], seen["come"]), 20)
+            self.assertGreater(min(seen["gone"], seen["come"]), 2)
 
     def test_a_root_that_grows_and_shrinks(self):
         tree = self.filled([((at,), ()) for at in range(4)], 4)
