@@ -37,6 +37,14 @@ def edit_place(edit):
 def apply_delta(schema, book, delta, *, references=True):
     """Return the book to which the delta leads from this one."""
     check_placed(_rows_after(schema, delta))
+    result = edited_book(schema, book, delta)
+    if references:
+        check_references(schema, result)
+    return result
+
+
+def edited_book(schema, book, delta):
+    """Return the book to which the delta leads, or raise Mismatch; nothing else is checked."""
     tables = {definition[0]: keyed_rows(definition, rows_of(book, definition[0])) for definition in schema}
     _check_before(tables, delta)
     for table, key, _, after in delta:
@@ -44,10 +52,7 @@ def apply_delta(schema, book, delta, *, references=True):
             del tables[table][row_key(key)]
         else:
             tables[table][row_key(key)] = after
-    result = tuple([(definition[0], _in_order(tables[definition[0]])) for definition in schema])
-    if references:
-        check_references(schema, result)
-    return result
+    return tuple([(definition[0], _in_order(tables[definition[0]])) for definition in schema])
 
 
 def _rows_after(schema, delta):

@@ -54,9 +54,7 @@ class PageTree:
 
     def look(self, key):
         """Return the row of the key, or None."""
-        entries = self._pages[self._path(key)[-1]][1]
-        at = _place_of(entries, key)
-        return entries[at][1] if _stands_at(entries, at, key) else None
+        return self._row_under(key)
 
     def scan(self, low=(), high=(), *, reverse=False):
         """Return the entries from low to the last one that is not above high or begins with it."""
@@ -78,7 +76,13 @@ class PageTree:
         return len(entries_of(self.pages))
 
     def __contains__(self, key):
-        return self.look(key) is not None
+        return self._row_under(key) is not None
+
+    def _row_under(self, key):
+        """Return the row of the key, or None."""
+        entries = self._pages[self._path(key)[-1]][1]
+        at = _place_of(entries, key)
+        return entries[at][1] if _stands_at(entries, at, key) else None
 
     def _path(self, key):
         """Return the numbers of the pages from page 0 to the leaf for the key."""

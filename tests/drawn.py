@@ -215,22 +215,20 @@ def truth(formula, columns, row):
     return word == "true"
 
 
-def plain(store, tree):
+def plain(store, tree, schema=SCHEMA):
     """The pair (columns, rows) of a tree over a book, the rows of a top node in its order."""
     word = tree[0]
     if word == "table":
-        names = [column for column, _ in [table for table in SCHEMA if table[0] == tree[1]][0][1]]
+        names = [column for column, _ in [table for table in schema if table[0] == tree[1]][0][1]]
         return tuple([f"{tree[2]}.{name}" for name in names]), list(dict(store)[tree[1]])
     if word == "empty":
         return tree[1], []
-    columns, rows = plain(store, tree[1])
-    if word == "pair":
-        more, others = plain(store, tree[2])
-        return columns + more, [row + other for row in rows for other in others]
-    if word == "union":
-        return columns, rows + plain(store, tree[2])[1]
-    if word == "minus":
-        return columns, left_over(rows, plain(store, tree[2])[1])
+    columns, rows = plain(store, tree[1], schema)
+    if word in ("pair", "union", "minus"):
+        more, others = plain(store, tree[2], schema)
+        if word == "pair":
+            return columns + more, [row + other for row in rows for other in others]
+        return columns, rows + others if word == "union" else left_over(rows, others)
     if word == "where":
         return columns, [row for row in rows if truth(tree[2], columns, row)]
     if word == "read":
@@ -288,10 +286,10 @@ def first_rows(rows, columns, keys, n):
     return sorted(rows, key=functools.cmp_to_key(before))[:n]
 
 
-def plain_shown(store, tree):
-    rows = plain(store, tree)[1]
+def plain_shown(store, tree, schema=SCHEMA):
+    rows = plain(store, tree, schema)[1]
     return rows if tree[0] == "top" else in_order(rows)
 
 
-def plain_answer(store, tree):
-    return in_order(plain(store, tree)[1])
+def plain_answer(store, tree, schema=SCHEMA):
+    return in_order(plain(store, tree, schema)[1])

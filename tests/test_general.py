@@ -9,11 +9,14 @@ import unittest
 
 from storedesk.books import make_book
 from storedesk.deltas import apply_delta, combined
+from storedesk.disks import Disk
 from storedesk.errors import KeyTaken, Mismatch
 from storedesk.pagetree import PageTree
 from storedesk.printer import write_query
+from storedesk.shelves import Shelf
 from storedesk.steps import RULES, SHRINKING
 from storedesk.values import Bag
+from storedesk.versions import VersionStore
 from tests.samples import BOOK, SCHEMA
 from tests.support import StoreCase
 
@@ -70,6 +73,47 @@ FUNCTIONS = {
         "optimize": "schema counts tree",
     },
     "pages": {"is_tree": "pages order", "entries_of": "pages", "depth_of": "pages", "search_path": "pages key"},
+    "histories": {
+        "full_reads": "schema record", "links": "schema history", "is_order": "schema history order",
+        "is_ring": "schema history ring", "serial_order": "schema history", "ring_of": "schema history",
+        "replay": "schema book history numbers",
+    },
+    "disks": {"recovery_paper": "state", "recovered_pages": "state", "sweepable": "state", "is_ahead": "pieces"},
+}
+
+# The classes of the interface: what creates an object, its methods with their parameters, and what is read off it.
+CLASSES = {
+    "values": {"Bag": (
+        {"__init__": "rows=()", "counted": "pairs", "many": "row", "__add__": "other", "__sub__": "other", "__len__": "",
+         "__contains__": "row", "__bool__": "", "__iter__": ""},
+        "rows pairs",
+    )},
+    "pagetree": {"PageTree": (
+        {"__init__": "*order=8", "loaded": "pages *order=8", "put": "key row", "take": "key", "look": "key",
+         "scan": "low=() high=() *reverse=False", "drain": "", "__len__": "", "__contains__": "key"},
+        "pages order",
+    )},
+    "shelves": {"Shelf": (
+        {"__init__": "schema book *order=8", "loaded": "schema pages *order=8", "apply": "delta", "read_book": "",
+         "answer": "tree", "drain": ""},
+        "pages rows_read",
+    )},
+    "versions": {"VersionStore": (
+        {"__init__": "schema book", "begin": "", "query": "number tree", "look": "number table key",
+         "change": "number change", "edit": "number delta", "seen": "number", "own": "number", "reads": "number",
+         "ring_ahead": "number", "commit": "number", "drop": "number", "versions": "table key", "sweep": "",
+         "book_at": "count"},
+        "book history under_way",
+    )},
+    "disks": {"Disk": (
+        {"__init__": "*fuel=None", "write": "piece", "twin": "*fuel=None", "state": "", "written": "", "__len__": "",
+         "__iter__": ""},
+        "first end fuel",
+    )},
+}
+OBJECTS = {
+    "Bag": Bag, "PageTree": PageTree, "Shelf": lambda: Shelf(SCHEMA, BOOK),
+    "VersionStore": lambda: VersionStore(SCHEMA, BOOK), "Disk": Disk,
 }
 
 
@@ -99,22 +143,27 @@ class TestInterface(StoreCase):
         self.assertIs(inspect.signature(apply_delta).parameters["references"].default, True)
         self.assertSame(inspect.signature(Bag).parameters["rows"].default, ())
         self.assertIs(inspect.signature(write_query).parameters["lines"].default, False)
-        for made in (PageTree, PageTree.loaded):
-            self.assertEqual(inspect.signature(made).parameters["order"].kind, inspect.Parameter.KEYWORD_ONLY)
-            self.assertSame(inspect.signature(made).parameters["order"].default, 8)
-        scan = inspect.signature(PageTree().scan).parameters
-        self.assertEqual(list(scan), ["low", "high", "reverse"])
-        self.assertSame([parameter.default for parameter in scan.values()], [(), (), False])
-        self.assertEqual(scan["reverse"].kind, inspect.Parameter.KEYWORD_ONLY)
 
-    def test_methods_are_defined_in_the_class(self):
-        self.assertEqual((Bag.__module__, Bag.__name__), ("storedesk.values", "Bag"))
-        for name in ("counted", "many", "rows", "__add__", "__sub__", "__len__", "__contains__", "__bool__", "__iter__",
-                     "pairs"):
-            self.assertIn(name, vars(Bag))
-        self.assertEqual((PageTree.__module__, PageTree.__name__), ("storedesk.pagetree", "PageTree"))
-        for name in ("loaded", "put", "take", "look", "scan", "drain", "__len__", "__contains__", "pages"):
-            self.assertIn(name, vars(PageTree))
+    def test_classes(self):
+        for file, classes in CLASSES.items():
+            for name, (methods, read) in classes.items():
+                made = getattr(module_of(file), name)
+                self.assertEqual((made.__module__, made.__name__), ("storedesk." + file, name))
+                for method, wanted in methods.items():
+                    self.assertIn(method, vars(made), name)
+                    self.check_method(made, method, wanted)
+                for read_off in read.split():
+                    getattr(OBJECTS[name](), read_off)
+
+    def check_method(self, made, method, wanted):
+        """The parameters behind the object itself, with their defaults."""
+        found = list(inspect.signature(getattr(made, method)).parameters.values())
+        if not isinstance(vars(made)[method], classmethod):
+            found = found[1:]
+        self.assertEqual([str(one) for one in found], [part.lstrip("*") for part in wanted.split()], (made, method))
+        for part, parameter in zip(wanted.split(), found):
+            kind = parameter.KEYWORD_ONLY if part.startswith("*") else parameter.POSITIONAL_OR_KEYWORD
+            self.assertEqual(parameter.kind, kind, (made, method, part))
 
     def test_names_of_rules(self):
         self.assertIsInstance(RULES, tuple)
