@@ -91,7 +91,7 @@ def _groups(log, word):
 def _unfinished(log):
     """Return the list of the groups that have begun in the log and have not ended there, ascending."""
     ended = _groups(log, "commit") + _groups(log, "drop")
-    return sorted([group for group in _groups(log, "begin") if group not in ended])
+    return [group for group in _groups(log, "begin") if group not in ended]
 
 
 def missing_images(state):

@@ -1,12 +1,15 @@
-"""Plain readings of points 55 to 63, a small town with references, and changes that are drawn for it."""
+"""Plain readings of points 55 to 63 and 79 to 92, a small town with references, and lines that are drawn for it."""
 
 import itertools
 
 from storedesk.changes import change_delta
 from storedesk.deltas import apply_delta, difference
-from storedesk.errors import Closed, NotSerial, StoreError
-from storedesk.trees import tables_in
-from tests.drawn import condition, plain_shown, row_order
+from storedesk.errors import Busy, Closed, Dangling, Mismatch, NameTaken, NotSerial, NoView, StoreError
+from storedesk.printer import write_change
+from storedesk.reader import read_change, read_query
+from storedesk.trees import columns_of, tables_in
+from storedesk.values import is_name
+from tests.drawn import condition, plain_answer, plain_shown, row_order
 from tests.support import exact
 
 # The town's tables refer to each other and to themselves; a person may live nowhere and have no boss.
@@ -138,7 +141,8 @@ class PlainStore:
         return (table, exact_place(key))
 
     def begin(self):
-        self.open[self.begun] = {"start": len(self.history), "base": self.books[-1], "seen": self.books[-1], "items": []}
+        self.open[self.begun] = {"start": len(self.history), "base": self.books[-1], "seen": self.books[-1],
+                                 "items": []}
         self.begun += 1
         return self.begun - 1
 
@@ -214,6 +218,221 @@ class PlainStore:
     @property
     def book(self):
         return self.books[-1]
+
+
+class PlainSessions:
+    """Points 86 to 88."""
+
+    def __init__(self, schema, book):
+        self.schema = schema
+        self.store = PlainStore(schema, book)
+        self.tasks = {}
+        self.entries = []
+        # For each record, whose it is and whether undo may take it still.
+        self.owners = []
+
+    def run(self, session, line):
+        try:
+            result = self.answer(session, line)
+        except StoreError as error:
+            result = ("refused", type(error).__name__)
+        self.entries.append((session, line, result))
+        return result
+
+    def answer(self, session, line):
+        if line == "begin":
+            if session in self.tasks:
+                raise Busy()
+            self.tasks[session] = self.store.begin()
+            return ("begun",)
+        if line in ("commit", "drop"):
+            if session not in self.tasks:
+                raise Closed()
+            number = self.tasks.pop(session)
+            if line == "drop":
+                self.store.drop(number)
+                return ("dropped",)
+            return ("committed", self.committed(number, session))
+        if line == "undo":
+            return self.undo(session)
+        if line.split()[:1] == ["from"] or line.replace("\n", " ").lstrip().startswith("from "):
+            return self.query(session, read_query(line))
+        change = read_change(line)
+        number = self.tasks.get(session)
+        if number is not None:
+            return ("changed", len(self.store.change(number, change)))
+        delta = change_delta(self.schema, self.store.book, change)
+        number = self.store.begin()
+        self.store.change(number, change)
+        self.committed(number, session)
+        return ("changed", len(delta))
+
+    def query(self, session, tree):
+        columns = columns_of(self.schema, tree)
+        number = self.tasks.get(session)
+        if number is not None:
+            return ("rows", columns, tuple(self.store.query(number, tree)))
+        return ("rows", columns, tuple(plain_shown(self.store.book, tree, self.schema)))
+
+    def committed(self, number, owner):
+        result = self.store.commit(number)
+        self.owners.append(owner)
+        return result
+
+    def at_once(self, delta):
+        """Commit a delta that no undo takes."""
+        apply_delta(self.schema, self.store.book, delta)
+        number = self.store.begin()
+        self.store.edit(number, delta)
+        return self.committed(number, None)
+
+    def undo(self, session):
+        own = [at for at, owner in enumerate(self.owners) if owner == session and self.store.history[at][2]]
+        if not own:
+            raise Closed()
+        if session in self.tasks:
+            raise Busy()
+        back = tuple([(table, key, after, before) for table, key, before, after in self.store.history[own[-1]][2]])
+        self.at_once(back)
+        self.owners[own[-1]] = None
+        return ("undone", len(back))
+
+
+class PlainCopy:
+    """Points 79 to 85, worked out anew from the known changes whenever something is asked."""
+
+    def __init__(self, name, names):
+        self.name, self.names = name, names
+        self.known = []
+        self.others = {one: 0 for one in names}
+
+    def top(self):
+        return max([change[2] for change in self.known], default=0)
+
+    def heard(self):
+        clocks = {**self.others, self.name: self.top()}
+        return tuple([(one, clocks[one]) for one in sorted(clocks)])
+
+    def write(self, delta):
+        own = [change for change in self.known if change[0] == self.name]
+        self.known.append((self.name, len(own) + 1, self.top() + 1, delta))
+
+    def receive(self, changes):
+        new = []
+        for change in changes:
+            if change[:2] not in [one[:2] for one in self.known]:
+                self.known.append(change)
+                new.append(change)
+            self.others[change[0]] = max(self.others[change[0]], change[2])
+        return len(new)
+
+    def meet(self, other):
+        counts = (self.receive(list(other.known)), other.receive(list(self.known)))
+        mine, theirs = dict(self.heard()), dict(other.heard())
+        for one in self.names:
+            self.others[one] = max(mine[one], theirs[one])
+            other.others[one] = max(mine[one], theirs[one])
+        return counts
+
+    def shown(self, schema, base):
+        """What a Copy shows: name, book, vector, changes, clashes, heard and settled."""
+        changes = tuple(sorted(self.known, key=lambda change: (change[2], change[0])))
+        book, clashes = base, []
+        for name, number, _, delta in changes:
+            try:
+                book = apply_delta(schema, book, delta)
+            except (Mismatch, Dangling) as error:
+                clashes.append((name, number, type(error).__name__, error.table, error.key))
+        vector = {name: len([change for change in changes if change[0] == name]) for name in sorted(self.names)}
+        least = min([clock for _, clock in self.heard()])
+        return (self.name, book, tuple([pair for pair in vector.items() if pair[1]]), changes, tuple(clashes),
+                self.heard(), len([change for change in changes if change[2] <= least]))
+
+
+class PlainDesk(PlainSessions):
+    """Points 89 to 91, without a disk: the deltas that are written as groups, and how often it was saved."""
+
+    def __init__(self, schema, book, name="desk", names=("desk",), groups=None):
+        PlainSessions.__init__(self, schema, book)
+        self.base = book
+        self.copy = PlainCopy(name, names)
+        self.kept = {}
+        nothing = tuple([(definition[0], ()) for definition in schema])
+        self.writes = [difference(schema, nothing, book)] if groups is None else list(groups)
+
+    def answer(self, session, line):
+        words = line.split(" ")
+        if line == "save":
+            self.writes.append("save")
+            return ("saved",)
+        if words[0] == "keep" and len(words) > 3 and is_name(words[1]) and words[2] == "as":
+            tree = read_query(line[len("keep  as ") + len(words[1]):])
+            if words[1] in self.kept:
+                raise NameTaken(words[1])
+            columns_of(self.schema, tree)
+            self.kept[words[1]] = tree
+            return ("kept", words[1])
+        if words[0] in ("show", "forget") and len(words) == 2 and is_name(words[1]):
+            if words[1] not in self.kept:
+                raise NoView(words[1])
+            if words[0] == "forget":
+                del self.kept[words[1]]
+                return ("forgotten", words[1])
+            tree = self.kept[words[1]]
+            return ("rows", columns_of(self.schema, tree), tuple(plain_answer(self.store.book, tree, self.schema)))
+        count = len(self.store.history)
+        result = PlainSessions.answer(self, session, line)
+        for _, _, delta in self.store.history[count:]:
+            if delta:
+                self.writes.append(delta)
+                self.copy.write(delta)
+        return result
+
+    def meet(self, other):
+        counts = self.copy.meet(other.copy)
+        for one in (self, other):
+            delta = difference(one.schema, one.store.book, one.copy.shown(one.schema, one.base)[1])
+            if delta:
+                one.at_once(delta)
+                one.writes.append(delta)
+        return counts
+
+
+QUERIES = (
+    "from person as p", "from city as c top 2 by c.size down, c.id", "from note as n where n.at = none",
+    "from person as p with city as c where p.city = c.id read p.id, c.size as s", " from empty (x.y, z)",
+    "from (from person as p read p.boss as b) group by b tell count as n",
+    "from city as c read c.id\nunion empty (c.id)",
+    "from person as p read id", "from nobody as n", "from city as c with city as c", "from city as c union note as n",
+    "from person as p where", "from",
+)
+ODD_LINES = (
+    "", " ", "begin ", " commit", "Begin", "begin begin", "undo;", "drop x", "keep", "keep v", "keep v as",
+    "keep v as ",
+    "keep  v as from city as c", "keep v  as from city as c", "keep top as from city as c", "show", "show  v",
+    "show v ",
+    "show top", "forget", "forget V", "save ", "save v", "put", "put city", "put city (1, 2", "put city ()", "take",
+    "take nobody", "set city id to 5, id to 6", "set city nope to 5", "put city (7, -1)", "put person (1, 2, true)",
+    "put city (1, 0), (1, 0)", "fromage", "from city as c; undo", "commit\n",
+)
+
+
+def town_line(draw, views=True):
+    """A line for a session of the town; views are none's before a Desk."""
+    way = draw.random()
+    if way < 0.28:
+        return draw.choice(("begin", "begin", "commit", "commit", "commit", "drop"))
+    if way < 0.36:
+        return "undo"
+    if way < 0.46:
+        return draw.choice(QUERIES)
+    if way < 0.5:
+        return draw.choice(ODD_LINES)
+    if views and way < 0.64:
+        name = draw.choice(("v", "w", "xyz_1"))
+        return draw.choice((f"keep {name} as {draw.choice(QUERIES)}", f"keep {name} as {draw.choice(QUERIES)}",
+                            f"show {name}", f"show {name}", f"show {name}", f"forget {name}", "save"))
+    return write_change(town_change(draw))
 
 
 def outcome(call, *rest):

@@ -8,15 +8,20 @@ import pathlib
 import unittest
 
 from storedesk.books import make_book
+from storedesk.copies import Copy
 from storedesk.deltas import apply_delta, combined
+from storedesk.desk import Desk
 from storedesk.disks import Disk
 from storedesk.errors import KeyTaken, Mismatch
 from storedesk.pagetree import PageTree
 from storedesk.printer import write_query
+from storedesk.recovery import Engine
+from storedesk.sessions import Sessions
 from storedesk.shelves import Shelf
 from storedesk.steps import RULES, SHRINKING
 from storedesk.values import Bag
 from storedesk.versions import VersionStore
+from storedesk.views import Keeper, View
 from tests.samples import BOOK, SCHEMA
 from tests.support import StoreCase
 
@@ -79,12 +84,20 @@ FUNCTIONS = {
         "replay": "schema book history numbers",
     },
     "disks": {"recovery_paper": "state", "recovered_pages": "state", "sweepable": "state", "is_ahead": "pieces"},
+    "views": {
+        "bag_turn": "before after", "turn_paper": "schema first second tree",
+        "is_turn": "schema first second tree paper",
+        "can_touch": "schema tree delta",
+    },
+    "copies": {"replayed": "schema book changes"},
+    "sessions": {"replay_lines": "schema book lines"},
 }
 
 # The classes of the interface: what creates an object, its methods with their parameters, and what is read off it.
 CLASSES = {
     "values": {"Bag": (
-        {"__init__": "rows=()", "counted": "pairs", "many": "row", "__add__": "other", "__sub__": "other", "__len__": "",
+        {"__init__": "rows=()", "counted": "pairs", "many": "row", "__add__": "other", "__sub__": "other",
+         "__len__": "",
          "__contains__": "row", "__bool__": "", "__iter__": ""},
         "rows pairs",
     )},
@@ -110,10 +123,41 @@ CLASSES = {
          "__iter__": ""},
         "first end fuel",
     )},
+    "recovery": {"Engine": (
+        {"__init__": "schema disk *order=8", "begin": "", "commit": "", "drop": "", "apply": "delta",
+         "flush": "number=None", "sweep": "", "checkpoint": "", "dirty_pages": "", "read_book": "", "answer": "tree"},
+        "disk group pages",
+    )},
+    "views": {
+        "View": ({"__init__": "schema book tree", "turn": "delta"}, "rows columns tree"),
+        "Keeper": (
+            {"__init__": "schema book", "keep": "name tree", "forget": "name", "turn": "delta", "touchable": "delta",
+             "show": "name", "columns_shown": "name"},
+            "book names",
+        ),
+    },
+    "copies": {"Copy": (
+        {"__init__": "schema book name names", "write": "delta", "changes_after": "vector", "receive": "changes",
+         "meet": "other"},
+        "name book vector changes clashes heard settled",
+    )},
+    "sessions": {"Sessions": (
+        {"__init__": "schema book", "run": "session line", "merge": "delta", "__len__": "", "__iter__": ""},
+        "book history entries",
+    )},
+    "desk": {"Desk": (
+        {"__init__": "schema book disk *name='desk' *names=('desk',) *order=8",
+         "recovered": "schema disk *name='desk' *names=('desk',) *order=8", "run": "session line", "meet": "other",
+         "__len__": "", "__iter__": ""},
+        "book history entries disk views changes clashes vector",
+    )},
 }
 OBJECTS = {
     "Bag": Bag, "PageTree": PageTree, "Shelf": lambda: Shelf(SCHEMA, BOOK),
-    "VersionStore": lambda: VersionStore(SCHEMA, BOOK), "Disk": Disk,
+    "VersionStore": lambda: VersionStore(SCHEMA, BOOK), "Disk": Disk, "Engine": lambda: Engine(SCHEMA, Disk()),
+    "View": lambda: View(SCHEMA, BOOK, ("table", "zoo", "z")), "Keeper": lambda: Keeper(SCHEMA, BOOK),
+    "Copy": lambda: Copy(SCHEMA, BOOK, "desk", ("desk",)), "Sessions": lambda: Sessions(SCHEMA, BOOK),
+    "Desk": lambda: Desk(SCHEMA, BOOK, Disk()),
 }
 
 

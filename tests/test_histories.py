@@ -281,7 +281,8 @@ class TestReplay(StoreCase):
         )
         for error, attributes, numbers in (
             (Dangling, {"table": "ants"}, (6, 0, 1, 2, 3, 4)), (CheckFailed, {"check": 0}, (1, 0, 2, 3, 4)),
-            (BadKind, {"column": "size"}, (2, 3, 0)), (BadWidth, {"row": (5,)}, (3, 4)), (NoTable, {"table": "bees"}, (4, 3)),
+            (BadKind, {"column": "size"}, (2, 3, 0)), (BadWidth, {"row": (5,)}, (3, 4)),
+            (NoTable, {"table": "bees"}, (4, 3)),
             (BadKind, {"table": "zoo", "column": "city"}, (6, 5, 4)),
         ):
             self.assertFails(error, attributes, replay, SCHEMA, BOOK, history, numbers)

@@ -113,7 +113,8 @@ class TestPages(ShelfCase):
     def test_not_a_tree(self):
         book = make_book(PLAIN, [("one", [(at,) for at in range(4)])])
         leaves = entries_in(PLAIN, book)
-        good = ((0, ("branch", (("one", 2),), (1, 2))), (1, ("leaf", tuple(leaves[:2]))), (2, ("leaf", tuple(leaves[2:]))))
+        good = ((0, ("branch", (("one", 2),), (1, 2))), (1, ("leaf", tuple(leaves[:2]))),
+                (2, ("leaf", tuple(leaves[2:]))))
         self.assertSame(Shelf.loaded(PLAIN, good, order=4).read_book(), book)
         low, high = good[1:]
         bad = (
@@ -222,7 +223,8 @@ class TestApply(ShelfCase):
     def test_true_is_not_one(self):
         shelf = Shelf(PLAIN, make_book(PLAIN, [("t", [(1, 0, 1)])]))
         self.assertFails(Mismatch, {"table": "t", "key": (1, 0)}, shelf.apply, (("t", (1, 0), (True, 0, 1), None),))
-        self.assertFails(Mismatch, {"table": "t", "key": (True, 0)}, shelf.apply, (("t", (True, 0), (1, 0, True), None),))
+        self.assertFails(Mismatch, {"table": "t", "key": (True, 0)}, shelf.apply,
+                         (("t", (True, 0), (1, 0, True), None),))
         shelf.apply((("t", (True, 0), None, (1, 0, True)), ("t", (1, 0), (1, 0, 1), (True, 0, 1))))
         self.assertSame(shelf.read_book(), (("t", ((1, 0, True), (True, 0, 1))), ("one", ())))
 

@@ -148,7 +148,8 @@ class TestTransactions(VersionCase):
         number = store.begin()
         before = self.state(store)
         for error, attributes, text in (
-            (NoTable, {"table": "nope"}, "from nope as n where x = 1"), (NoColumn, {"label": "id"}, "from city as c read id"),
+            (NoTable, {"table": "nope"}, "from nope as n where x = 1"),
+            (NoColumn, {"label": "id"}, "from city as c read id"),
             (Repeated, {"label": "c.id"}, "from city as c with city as c"),
             (Unlike, {"left": ("c.id", "c.size")}, "from city as c union note as n"),
         ):
@@ -319,7 +320,8 @@ class TestCommit(VersionCase):
             self.assertIsInstance(one, tuple)
             self.assertTrue(is_ring(KV, longer, one), (longer, one))
         self.assertSame(store.under_way, tuple(others))
-        self.assertSame((store.history, store.book, [store.seen(one) for one in others], store.versions("t", (1,))), made)
+        self.assertSame((store.history, store.book, [store.seen(one) for one in others], store.versions("t", (1,))),
+                        made)
         self.assertFails(Closed, {}, store.commit, number)
 
     def test_the_same_row_twice(self):
@@ -532,7 +534,8 @@ class TestRandomly(VersionCase):
             self.assertSame(store.sweep(), plain.sweep())
             return False
         rest = {
-            "query": lambda: (read_query(draw.choice(("from city as c top 1 by c.id down", "from person as p where never",
+            "query": lambda: (read_query(draw.choice(("from city as c top 1 by c.id down",
+                                                      "from person as p where never",
                                                       "from note as n with city as c read n.on"))),),
             "look": lambda: draw.choice((("city", (draw.choice(CITIES),)), ("person", (draw.randrange(5),)))),
             "change": lambda: (town_change(draw),),
